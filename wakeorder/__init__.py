@@ -1,0 +1,1 @@
+"""Wakeorder: in which order, and when, flights use a strip."""
