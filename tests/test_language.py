@@ -42,6 +42,13 @@ BANNED_WORDS = re.compile(
     r"|namedtuple|NamedTuple|TypedDict|TYPE_CHECKING|abstractmethod)\b|dataclass|overload|contextmanager"
 )
 BUILTIN_NAMES = set(dir(__import__("builtins")))
+KEYWORDS = {
+    "sorted": ("key", "reverse"), "min": ("key", "default"), "max": ("key", "default"), "sum": ("start",),
+    "enumerate": ("start",), "zip": ("strict",),
+}
+WALKED = ("zip", "enumerate", "reversed", "range", "items", "keys", "values")
+WALKERS = ("list", "tuple", "dict", "sorted", "sum", "any", "all", "enumerate", "zip")
+CHANGERS = ("append", "clear", "extend", "insert", "pop", "remove", "reverse", "setdefault", "update")
 
 
 def file_faults(text):
@@ -164,11 +171,103 @@ def expression_faults(node):
             yield f"L17 line {node.lineno}: {node.attr}"
 
 
+def called_name(node):
+    if not isinstance(node, ast.Call):
+        return ""
+    return getattr(node.func, "id", getattr(node.func, "attr", ""))
+
+
+def keyword_faults(node):
+    for part in node.keywords:
+        if isinstance(node.func, ast.Name) and node.func.id in BUILTIN_NAMES:
+            if part.arg not in KEYWORDS.get(node.func.id, ()):
+                yield f"L22 line {node.lineno}: {part.arg}"
+
+
+def is_walked_at_once(node, above):
+    if isinstance(above, (ast.For, ast.comprehension)):
+        return above.iter is node
+    name = called_name(above)
+    if name in WALKERS:
+        return above.args[0] is node
+    return name in ("min", "max", "join") and above.args == [node]
+
+
+def is_set_at_its_place(node, above):
+    if isinstance(above, ast.BinOp):
+        return True
+    return isinstance(above, ast.Compare) or called_name(above) in ("sorted", "len")
+
+
+def value_faults(tree):
+    above = {part: node for node in ast.walk(tree) for part in ast.iter_child_nodes(node)}
+    for node in ast.walk(tree):
+        if isinstance(node, ast.Call):
+            yield from keyword_faults(node)
+        if called_name(node) in WALKED and not is_walked_at_once(node, above[node]):
+            yield f"L23 line {node.lineno}: {called_name(node)} is kept"
+        if called_name(node) in ("set", "frozenset") and not is_set_at_its_place(node, above[node]):
+            yield f"L24 line {node.lineno}: a set is kept or walked"
+        if isinstance(node, ast.Name) and node.id in OWN_NAMES and isinstance(above[node], (ast.Assign, ast.Return)):
+            yield f"L22 line {node.lineno}: {node.id} is kept"
+
+
+def walk_faults(tree):
+    for loop in ast.walk(tree):
+        if not isinstance(loop, ast.For):
+            continue
+        walked = [ast.unparse(loop.iter)]
+        if called_name(loop.iter) in ("enumerate", "zip", "reversed"):
+            walked = [ast.unparse(part) for part in loop.iter.args]
+        elif called_name(loop.iter) in ("items", "keys", "values"):
+            walked = [ast.unparse(loop.iter.func.value)]
+        for node in ast.walk(loop):
+            changed = ""
+            if isinstance(node, ast.Subscript) and isinstance(node.ctx, ast.Store):
+                changed = ast.unparse(node.value)
+            elif called_name(node) in CHANGERS and isinstance(node.func, ast.Attribute):
+                changed = ast.unparse(node.func.value)
+            if changed in walked:
+                yield f"L23 line {node.lineno}: {changed} is changed while it is walked"
+
+
+def local_faults(tree):
+    taken = [node.name for node in tree.body if isinstance(node, (ast.ClassDef, ast.FunctionDef))]
+    for node in tree.body:
+        if isinstance(node, ast.ImportFrom):
+            taken.extend(alias.name for alias in node.names)
+    for top in tree.body:
+        if not isinstance(top, (ast.ClassDef, ast.FunctionDef)):
+            continue
+        for node in ast.walk(top):
+            if isinstance(node, ast.arg) and node.arg in taken:
+                yield f"L15 line {node.lineno}: {node.arg}"
+            if isinstance(node, ast.Name) and isinstance(node.ctx, ast.Store) and node.id in taken:
+                yield f"L15 line {node.lineno}: {node.id}"
+
+
+def error_faults(node):
+    for handler in node.handlers:
+        names = handler.type.elts if isinstance(handler.type, ast.Tuple) else [handler.type]
+        for name in names:
+            if getattr(name, "id", "") in ("Exception", "TypeError"):
+                yield f"L19 line {handler.lineno}: {name.id}"
+
+
+def init_faults(node):
+    for part in ast.walk(node):
+        if node.name == "__init__" and isinstance(part, ast.Return) and part.value is not None:
+            yield f"L28 line {part.lineno}: __init__ gives something back"
+
+
 def faults_of(text, methods=()):
     """All faults of a file; methods are the names of the package's own methods."""
     faults = list(file_faults(text))
     tree = ast.parse(text)
     faults.extend(top_faults(tree))
+    faults.extend(value_faults(tree))
+    faults.extend(walk_faults(tree))
+    faults.extend(local_faults(tree))
     for node in ast.walk(tree):
         if isinstance(node, ast.stmt):
             faults.extend(statement_faults(node))
@@ -178,6 +277,10 @@ def faults_of(text, methods=()):
             faults.extend(class_faults(node))
         if isinstance(node, (ast.FunctionDef, ast.Lambda)):
             faults.extend(function_faults(node))
+        if isinstance(node, ast.FunctionDef):
+            faults.extend(init_faults(node))
+        if isinstance(node, ast.Try):
+            faults.extend(error_faults(node))
         if isinstance(node, ast.Name):
             faults.extend(name_faults(node))
         if isinstance(node, ast.Call):
@@ -198,6 +301,17 @@ def methods_and_values(texts):
 
 def drawn_from(text):
     return [node.module.split(".")[1] for node in ast.parse(text).body if isinstance(node, ast.ImportFrom)]
+
+
+def defined_in(text):
+    """The names that a file binds at its top by itself, not by an import."""
+    names = []
+    for node in ast.parse(text).body:
+        if isinstance(node, (ast.FunctionDef, ast.ClassDef)):
+            names.append(node.name)
+        if isinstance(node, ast.Assign):
+            names.append(node.targets[0].id)
+    return names
 
 
 def package_texts():
@@ -224,6 +338,17 @@ class Package(unittest.TestCase):
     def test_no_name_is_a_method_and_a_value(self):
         methods, values = methods_and_values(package_texts().values())
         self.assertEqual(sorted(methods & values), [])
+
+    def test_each_import_is_from_the_file_that_defines_the_name(self):
+        texts = package_texts()
+        for name, text in texts.items():
+            for node in ast.parse(text).body:
+                if isinstance(node, ast.ImportFrom):
+                    defined = defined_in(texts[node.module.split(".")[1] + ".py"])
+                    for alias in node.names:
+                        with self.subTest(name=name, drawn=alias.name):
+                            self.assertIn(alias.name, defined)
+                            self.assertIsNone(alias.asname)
 
     def test_no_two_files_draw_from_one_another(self):
         draws = {name[:-3]: drawn_from(text) for name, text in package_texts().items()}
@@ -258,11 +383,25 @@ class Checker(unittest.TestCase):
         ("L14", "# \t\n"),
         ("L15", "def one(x):\n    return x\n\n\ndef one(y):\n    return y\n"),
         ("L15", "def one(max):\n    return max\n"),
+        ("L15", "from wakeorder.rules import Rules\n\n\ndef one(Rules):\n    return Rules\n"),
+        ("L15", "def one(x):\n    return x\n\n\ndef two(x):\n    one = x\n    return one\n"),
         ("L17", "# the type\n"),
         ("L18", "class One:\n    def two(self):\n        pass\n\n    def two(self):\n        pass\n"),
+        ("L19", "def one(x):\n    try:\n        return x()\n    except TypeError:\n        return 1\n"),
         ("L20", "def one(x, y):\n    return x is y\n"),
+        ("L22", "def one(x):\n    return int(x, base=2)\n"),
+        ("L22", "def one(x):\n    found = len\n    return found(x)\n"),
+        ("L23", "def one(x):\n    return range(x)\n"),
+        ("L23", "def one(x, y):\n    return y in range(x)\n"),
+        ("L23", "def one(x):\n    return [y for y in reversed(range(x))]\n"),
+        ("L23", "def one(x):\n    y = x.items()\n    return list(y)\n"),
+        ("L23", "def one(x):\n    for y in x:\n        x.append(y)\n"),
+        ("L23", "def one(x):\n    for k, y in enumerate(x):\n        x[k] = y\n"),
+        ("L24", "def one(x):\n    return set(x)\n"),
+        ("L24", "def one(x):\n    for y in set(x):\n        return y\n"),
         ("L25", "def one(x):\n    x.sort()\n"),
         ("L27", "def one(x):\n    return 2 ** x\n"),
+        ("L28", "class One:\n    def __init__(self):\n        return None\n"),
     )
 
     def test_slips_are_found(self):
@@ -272,7 +411,10 @@ class Checker(unittest.TestCase):
 
     def test_plain_code_has_no_fault(self):
         text = '"""One."""\n\nfrom wakeorder.errors import NoRules\n\nMOST = 6\n\n\n' \
-            'def one(rows):\n    return [len(row) for row in rows if row is not None]\n'
+            'def one(rows):\n    return [len(row) for row in rows if row is not None]\n\n\n' \
+            'def two(rows):\n    found = []\n    for place, row in enumerate(rows):\n' \
+            '        found.append((place, max(row, default=0)))\n    return sorted(set(found), reverse=True)\n\n\n' \
+            'def three(many):\n    return list(range(many)) + [3 for number in range(many)]\n'
         self.assertEqual(faults_of(text), [])
 
 

@@ -1,0 +1,169 @@
+"""Small inputs drawn from a seed, and answers found by trying everything."""
+
+import copy
+import itertools
+import random
+
+from wakeorder.rules import Pair, Rules
+
+
+class Case:
+    """Rules, flights, closed stretches and a plan of these."""
+
+    def __init__(self, rules, flights, closed, plan):
+        self.rules = rules
+        self.flights = flights
+        self.closed = closed
+        self.plan = plan
+
+    def all(self):
+        return self.rules, self.flights, self.closed, self.plan
+
+    def seen(self):
+        """All of it as plain values, for telling cases apart in what a test prints."""
+        return shown_rules(self.rules), self.flights, self.closed, self.plan
+
+
+def shown_rules(rules):
+    rows = [rules.gap_rows()]
+    if rules.many_strips() == 2:
+        rows.append(rules.beside_rows())
+    return rows
+
+
+def drawn_rows(chance, kinds, greatest):
+    return [[chance.randint(0, greatest) for other in range(kinds)] for kind in range(kinds)]
+
+
+def drawn_rules(chance, greatest=4, strips=None):
+    kinds = chance.randint(1, 3)
+    if (strips or chance.randint(1, 2)) == 1:
+        return Rules(drawn_rows(chance, kinds, greatest))
+    return Pair(drawn_rows(chance, kinds, greatest), drawn_rows(chance, kinds, greatest // 2))
+
+
+def drawn_flight(chance, kinds, end):
+    first = chance.randint(0, end - 1)
+    return chance.randrange(kinds), first, chance.randint(first, end), chance.randint(0, end), chance.randint(0, 3)
+
+
+def drawn_flights(chance, rules, many, end):
+    return [drawn_flight(chance, rules.many_kinds(), end) for number in range(many)]
+
+
+def drawn_closed(chance, most, end):
+    closed = []
+    for number in range(chance.randint(0, most)):
+        start = chance.randint(0, end - 1)
+        closed.append((start, min(end, start + chance.randint(1, 3))))
+    return closed
+
+
+def drawn_plan(chance, rules, many):
+    return [(flight, chance.randrange(rules.many_strips())) for flight in chance.sample(range(many), many)]
+
+
+def drawn_cases(seed, many, most_flights=4, end=9):
+    """So many cases, the same ones for the same seed."""
+    chance = random.Random(seed)
+    cases = []
+    for number in range(many):
+        rules = drawn_rules(chance)
+        flights = drawn_flights(chance, rules, chance.randint(0, most_flights), end)
+        closed = drawn_closed(chance, 3, end)
+        cases.append(Case(rules, flights, closed, drawn_plan(chance, rules, len(flights))))
+    return cases
+
+
+def is_shut(closed, time):
+    return any(time in range(start, stop) for start, stop in closed)
+
+
+def least_apart(rules, one, other):
+    rows = shown_rules(rules)
+    return rows[0 if one[1] == other[1] else 1][one[0]][other[0]]
+
+
+def fits(case, times):
+    """By point 9, of times of the first places: whether the last of these fits the others."""
+    place = len(times) - 1
+    flight, strip = case.plan[place]
+    kind, first, last = case.flights[flight][:3]
+    if not first <= times[-1] <= last or is_shut(case.closed, times[-1]):
+        return False
+    for ahead in range(place):
+        other, beside = case.plan[ahead]
+        if times[-1] < times[ahead] + least_apart(case.rules, (case.flights[other][0], beside), (kind, strip)):
+            return False
+    return True
+
+
+def all_times(case):
+    """All lists of times that keep a plan, every time from 0 to the last one of all tried at each place."""
+    end = max([flight[2] for flight in case.flights], default=0)
+    found = [[]]
+    for place in range(len(case.plan)):
+        found = [times + [time] for times in found for time in range(end + 1) if fits(case, times + [time])]
+    return found
+
+
+def all_cost(case, times):
+    cost = 0
+    for (flight, strip), time in zip(case.plan, times):
+        due, price = case.flights[flight][3:]
+        if time > due:
+            cost += price * (time - due)
+    return cost
+
+
+def orders_by_trying(many, shift):
+    return [list(order) for order in itertools.permutations(range(many))
+            if all(abs(flight - place) <= shift for place, flight in enumerate(order))]
+
+
+def plans_by_trying(rules, many, shift):
+    """All plans within the shift."""
+    strips = list(itertools.product(range(rules.many_strips()), repeat=many))
+    return [list(zip(order, chosen)) for order in orders_by_trying(many, shift) for chosen in strips]
+
+
+def as_values(things):
+    """A copy of what is handed in, with rules as what they tell."""
+    return [shown_rules(thing) if isinstance(thing, Rules) else copy.deepcopy(thing) for thing in things]
+
+
+def asked(test, function, *things):
+    """What a function tells, twice the same, with nothing changed of what is handed in.
+
+    Each list and dict that is told is spoiled in between: it must be the asker's own.
+    """
+    kept = as_values(things)
+    told = function(*things)
+    answer = copy.deepcopy(told)
+    spoil(told)
+    test.assertEqual(as_values(things), kept)
+    test.assertEqual(function(*things), answer)
+    test.assertEqual(as_values(things), kept)
+    return answer
+
+
+def spoil(told):
+    if isinstance(told, (list, tuple)):
+        for thing in told:
+            spoil(thing)
+    if isinstance(told, dict):
+        for thing in told.values():
+            spoil(thing)
+        told["spoiled"] = True
+    if isinstance(told, list):
+        told.append("spoiled")
+
+
+def refused(test, refusal, function, *things):
+    """The refusal of a call, by just this class, with nothing changed of what is handed in."""
+    kept = as_values(things)
+    with test.assertRaises(refusal) as taken:
+        function(*things)
+    test.assertIs(taken.exception.__class__, refusal)
+    test.assertEqual(as_values(things), kept)
+    return taken.exception
