@@ -15,13 +15,18 @@ class Case:
         self.flights = flights
         self.closed = closed
         self.plan = plan
+        self.rows = shown_rules(rules)
 
     def all(self):
         return self.rules, self.flights, self.closed, self.plan
 
     def seen(self):
         """All of it as plain values, for telling cases apart in what a test prints."""
-        return shown_rules(self.rules), self.flights, self.closed, self.plan
+        return self.rows, self.flights, self.closed, self.plan
+
+    def apart(self, one, other):
+        """Point 5, by the rows that the rules tell."""
+        return self.rows[0 if one[1] == other[1] else 1][one[0]][other[0]]
 
 
 def shown_rules(rules):
@@ -76,12 +81,7 @@ def drawn_cases(seed, many, most_flights=4, end=9):
 
 
 def is_shut(closed, time):
-    return any(time in range(start, stop) for start, stop in closed)
-
-
-def least_apart(rules, one, other):
-    rows = shown_rules(rules)
-    return rows[0 if one[1] == other[1] else 1][one[0]][other[0]]
+    return any([time in range(start, stop) for start, stop in closed])
 
 
 def fits(case, times):
@@ -89,13 +89,13 @@ def fits(case, times):
     place = len(times) - 1
     flight, strip = case.plan[place]
     kind, first, last = case.flights[flight][:3]
-    if not first <= times[-1] <= last or is_shut(case.closed, times[-1]):
+    if not first <= times[-1] <= last:
         return False
     for ahead in range(place):
         other, beside = case.plan[ahead]
-        if times[-1] < times[ahead] + least_apart(case.rules, (case.flights[other][0], beside), (kind, strip)):
+        if times[-1] < times[ahead] + case.apart((case.flights[other][0], beside), (kind, strip)):
             return False
-    return True
+    return not is_shut(case.closed, times[-1])
 
 
 def all_times(case):
@@ -125,6 +125,51 @@ def plans_by_trying(rules, many, shift):
     """All plans within the shift."""
     strips = list(itertools.product(range(rules.many_strips()), repeat=many))
     return [list(zip(order, chosen)) for order in orders_by_trying(many, shift) for chosen in strips]
+
+
+def least_time(case, times):
+    """The earliest time of the next place behind times of the first ones, or None."""
+    first, last = case.flights[case.plan[len(times)][0]][1:3]
+    return next((time for time in range(first, last + 1) if fits(case, times + [time])), None)
+
+
+def label_of(case, times):
+    """By point 16: what the first places of a plan come to, at their earliest times."""
+    lasts = [[-1] * case.rules.many_kinds() for strip in range(case.rules.many_strips())]
+    for (flight, strip), time in zip(case.plan, times):
+        lasts[strip][case.flights[flight][0]] = time
+    return all_cost(case, times), tuple(tuple(row) for row in lasts)
+
+
+def labels_by_trying(rules, flights, closed, plans):
+    """For each set of flights with which one of the plans begins, all labels that such plans come to."""
+    times = {(): []}
+    labels = {}
+    for plan in plans:
+        case = Case(rules, flights, closed, plan)
+        for place in range(len(plan) + 1):
+            ahead, here = tuple(plan[:place - 1]), tuple(plan[:place])
+            if here not in times:
+                time = None if times[ahead] is None else least_time(case, times[ahead])
+                times[here] = None if time is None else times[ahead] + [time]
+            some = labels.setdefault(tuple(sorted(flight for flight, strip in here)), set())
+            if times[here] is not None:
+                some.add(label_of(case, times[here]))
+    return labels
+
+
+def flat(label):
+    return [label[0]] + [last for row in label[1] for last in row]
+
+
+def best_by_trying(labels):
+    """Those to which no unlike one is no worse, sorted."""
+    found = []
+    for label in labels:
+        others = [other for other in labels if other != label]
+        if not any(all(a <= b for a, b in zip(flat(other), flat(label))) for other in others):
+            found.append(label)
+    return sorted(found)
 
 
 def as_values(things):
