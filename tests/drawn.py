@@ -172,6 +172,38 @@ def best_by_trying(labels):
     return sorted(found)
 
 
+# Strips, flights and shift: the most plans that are told, and how many these are.
+MOST_PLANS = (
+    (1, 40, 0, 1), (2, 12, 0, 4096), (1, 18, 1, 4181), (2, 7, 1, 2688), (1, 10, 2, 2177), (2, 6, 2, 4672),
+    (1, 8, 3, 2069), (2, 5, 3, 2496),
+)
+# One flight more: there are more than 5,000.
+TOO_MANY_PLANS = (
+    (2, 13, 0, 8192), (1, 19, 1, 6765), (2, 8, 1, 8704), (1, 11, 2, 5081), (2, 7, 2, 22016), (1, 9, 3, 6404),
+    (2, 6, 3, 14720), (2, 40, 0, 2 ** 40), (1, 40, 1, 165580141), (2, 40, 1, 165580141 * 2 ** 40),
+)
+
+
+def drawn_inputs(seed, many, most=4):
+    """So many inputs: rules, flights, closed stretches and a shift."""
+    chance = random.Random(seed)
+    for number in range(many):
+        rules = drawn_rules(chance)
+        flights = drawn_flights(chance, rules, chance.randint(0, most if rules.many_strips() == 1 else 3), 14)
+        yield rules, flights, drawn_closed(chance, 3, 12), chance.randint(0, 3)
+
+
+def great_input(strips, many, seed):
+    """An input with many labels, six kinds and twenty closed stretches."""
+    chance = random.Random(seed)
+    rows = [[[chance.randint(0, 3) for other in range(6)] for kind in range(6)] for strip in range(strips)]
+    rules = Rules(*rows) if strips == 1 else Pair(*rows)
+    flights = [(number % 6, chance.randint(0, 9), 150, chance.randint(0, 9), chance.randint(0, 5))
+               for number in range(many)]
+    closed = [(start, start + 1) for start in chance.sample(range(120), 20)]
+    return rules, flights, closed
+
+
 def as_values(things):
     """A copy of what is handed in, with rules as what they tell."""
     return [shown_rules(thing) if isinstance(thing, Rules) else copy.deepcopy(thing) for thing in things]

@@ -137,7 +137,7 @@ def call_faults(node, methods):
         yield f"L7 line {node.lineno}: a star"
 
 
-def statement_faults(node):
+def statement_faults(node, at_top):
     if not isinstance(node, STATEMENTS):
         yield f"L6 line {node.lineno}: {node.__class__.__name__}"
     if isinstance(node, ast.Assign) and len(node.targets) > 1:
@@ -146,7 +146,8 @@ def statement_faults(node):
         yield f"L6 line {node.lineno}: else behind a loop"
     if isinstance(node, ast.Try) and (node.finalbody or any(part.type is None for part in node.handlers)):
         yield f"L6 line {node.lineno}: finally, or except without a name"
-    if isinstance(node, ast.Expr) and not isinstance(node.value, ast.Call) and not is_docstring(node):
+    # A docstring stands at a module's top alone, where top_faults sees it.
+    if isinstance(node, ast.Expr) and not isinstance(node.value, ast.Call) and not (is_docstring(node) and at_top):
         yield f"L6 line {node.lineno}: a value by itself"
 
 
@@ -270,7 +271,7 @@ def faults_of(text, methods=()):
     faults.extend(local_faults(tree))
     for node in ast.walk(tree):
         if isinstance(node, ast.stmt):
-            faults.extend(statement_faults(node))
+            faults.extend(statement_faults(node, node in tree.body))
         if isinstance(node, ast.expr):
             faults.extend(expression_faults(node))
         if isinstance(node, ast.ClassDef):
@@ -371,6 +372,7 @@ class Checker(unittest.TestCase):
         ("L5", "class One:\n    value = 1\n"),
         ("L6", "import os\n"),
         ("L6", "def one(x):\n    assert x\n"),
+        ("L6", 'def one(x):\n    """One."""\n    return x\n'),
         ("L6", "def one(x):\n    a = b = x\n"),
         ("L7", "def one(x):\n    return x / 2\n"),
         ("L7", "def one(x):\n    return 0.5\n"),

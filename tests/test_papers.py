@@ -6,8 +6,8 @@ import random
 import unittest
 
 from tests.drawn import (
-    asked, best_by_trying, drawn_closed, drawn_flights, drawn_rules, flat, labels_by_trying, orders_by_trying,
-    plans_by_trying, refused,
+    MOST_PLANS, TOO_MANY_PLANS, asked, best_by_trying, drawn_inputs, flat, great_input, labels_by_trying,
+    orders_by_trying, plans_by_trying, refused,
 )
 from wakeorder.errors import TooMany
 from wakeorder.labels import label_behind
@@ -17,39 +17,10 @@ from wakeorder.shifts import beginnings_of, orders_within
 
 ONE = Rules([[3, 4], [5, 6]])
 TWO = Pair([[3, 4], [5, 6]], [[1, 0], [2, 7]])
-# Strips, flights and shift: the most plans that are told, and how many these are.
-MOST = (
-    (1, 40, 0, 1), (2, 12, 0, 4096), (1, 18, 1, 4181), (2, 7, 1, 2688), (1, 10, 2, 2177), (2, 6, 2, 4672),
-    (1, 8, 3, 2069), (2, 5, 3, 2496),
-)
-# One flight more: there are more than 5,000.
-BEYOND = (
-    (2, 13, 0, 8192), (1, 19, 1, 6765), (2, 8, 1, 8704), (1, 11, 2, 5081), (2, 7, 2, 22016), (1, 9, 3, 6404),
-    (2, 6, 3, 14720), (2, 40, 0, 2 ** 40), (1, 40, 1, 165580141), (2, 40, 1, 165580141 * 2 ** 40),
-)
 
 
 def rules_of(strips):
     return (ONE, TWO)[strips - 1]
-
-
-def drawn_inputs(seed, many, most=4):
-    chance = random.Random(seed)
-    for number in range(many):
-        rules = drawn_rules(chance)
-        flights = drawn_flights(chance, rules, chance.randint(0, most if rules.many_strips() == 1 else 3), 14)
-        yield rules, flights, drawn_closed(chance, 3, 12), chance.randint(0, 3)
-
-
-def great_input(strips, many, seed):
-    """An input with many labels, six kinds and twenty closed stretches."""
-    chance = random.Random(seed)
-    rows = [[[chance.randint(0, 3) for other in range(6)] for kind in range(6)] for strip in range(strips)]
-    rules = Rules(*rows) if strips == 1 else Pair(*rows)
-    flights = [(number % 6, chance.randint(0, 9), 150, chance.randint(0, 9), chance.randint(0, 5))
-               for number in range(many)]
-    closed = [(start, start + 1) for start in chance.sample(range(120), 20)]
-    return rules, flights, closed
 
 
 def is_paper_by_trying(rules, flights, closed, shift, paper):
@@ -92,7 +63,7 @@ class ManyPlans(unittest.TestCase):
                 self.assertEqual(asked(self, many_plans, rules, 0, shift), 1)
 
     def test_greater_ones(self):
-        for strips, many, shift, plans in MOST + BEYOND:
+        for strips, many, shift, plans in MOST_PLANS + TOO_MANY_PLANS:
             with self.subTest(strips=strips, many=many, shift=shift):
                 self.assertEqual(asked(self, many_plans, rules_of(strips), many, shift), plans)
 
@@ -143,12 +114,12 @@ class PaperOf(unittest.TestCase):
         self.assertGreater(unlike, 80)
 
     def test_too_many(self):
-        for strips, many, shift, plans in BEYOND:
+        for strips, many, shift, plans in TOO_MANY_PLANS:
             with self.subTest(strips=strips, many=many, shift=shift):
                 refused(self, TooMany, paper_of, rules_of(strips), [(0, 0, 9, 0, 1)] * many, [], shift)
 
     def test_at_the_bounds(self):
-        for strips, many, shift, plans in MOST:
+        for strips, many, shift, plans in MOST_PLANS:
             with self.subTest(strips=strips, many=many, shift=shift):
                 rules, flights, closed = great_input(strips, many, shift)
                 paper = asked(self, paper_of, rules, flights, closed, shift)
@@ -311,13 +282,13 @@ class IsPaper(unittest.TestCase):
             paper[some].append((cost + chance.choice((0, 1)), lasts))
 
     def test_too_many(self):
-        for strips, many, shift, plans in BEYOND:
+        for strips, many, shift, plans in TOO_MANY_PLANS:
             for paper in ({}, {(): [(0, ((-1, -1),) * strips)]}):
                 with self.subTest(strips=strips, many=many, shift=shift):
                     refused(self, TooMany, is_paper, rules_of(strips), [(0, 0, 9, 0, 1)] * many, [], shift, paper)
 
     def test_all_labels_at_the_bounds(self):
-        for strips, many, shift, plans in MOST:
+        for strips, many, shift, plans in MOST_PLANS:
             with self.subTest(strips=strips, many=many, shift=shift):
                 rules, flights, closed = great_input(strips, many, shift)
                 paper = self.all_labels(rules, flights, closed, shift)

@@ -82,6 +82,16 @@ class BeginningsOf(unittest.TestCase):
                 found.append(some)
         return found
 
+    def test_somewhat_beyond_the_bounds(self):
+        for shift in (4, 5):
+            for many in (3, 6, 7):
+                orders = orders_by_trying(many, shift)
+                for size in range(many + 1):
+                    with self.subTest(many=many, shift=shift, size=size):
+                        tried = sorted({tuple(sorted(order[:size])) for order in orders})
+                        self.assertEqual(asked(self, beginnings_of, many, shift, size), tried)
+        self.assertEqual(asked(self, beginnings_of, 43, 0, 42), [tuple(range(42))])
+
     def test_how_many_in_the_middle_of_forty(self):
         self.assertEqual([len(beginnings_of(40, shift, 20)) for shift in range(4)], [1, 2, 6, 20])
 
@@ -109,9 +119,14 @@ class ManyOrders(unittest.TestCase):
 
     def test_forty_flights_by_counting_places(self):
         for shift in range(4):
-            for many in (20, 39, 40):
+            for many in (20, 39, 40, 43):
                 with self.subTest(many=many, shift=shift):
                     self.assertEqual(asked(self, many_orders, many, shift), self.counted(many, shift))
+
+    def test_somewhat_beyond_the_greatest_shift(self):
+        self.assertEqual([asked(self, many_orders, many, 4) for many in range(9)],
+                         [len(orders_by_trying(many, 4)) for many in range(9)])
+        self.assertEqual(asked(self, many_orders, 40, 4), self.counted(40, 4))
 
     def counted(self, many, shift):
         """Place by place, by which of the flights nearby are taken already."""

@@ -160,6 +160,13 @@ class TimesOf(unittest.TestCase):
         self.assert_times(Rules([[10 ** 6]]), flights, [], plan, [10 ** 6 * place for place in range(40)])
 
 
+    def test_somewhat_beyond_the_bounds(self):
+        flights = [(0, GREATEST + 5, GREATEST + 500, 0, GREATEST + 1)] * 43
+        closed = [(2 * number, 2 * number + 1) for number in range(22)] + [(GREATEST, GREATEST + 10)]
+        plan = plain_plan(list(range(43)))
+        self.assert_times(Rules([[2]]), flights, closed, plan, [GREATEST + 10 + 2 * place for place in range(43)])
+
+
 class PushesOf(unittest.TestCase):
     def assert_pushes(self, rules, flights, closed, plan, pushes):
         with self.subTest(plan=plan, closed=closed):

@@ -8,14 +8,16 @@ def is_in_range(number):
     return 0 <= number <= GREATEST_NUMBER
 
 
-def is_flight(rules, flight):
-    kind = flight[0]
+# Of all but the kind: rows of a sheet tell flights while there are no rules yet that could be asked for kinds.
+def has_right_numbers(flight):
     first = flight[1]
     last = flight[2]
-    if not 0 <= kind < rules.many_kinds() or first > last:
-        return False
     # All behind the kind are times and a price, which have the same range.
-    return all([is_in_range(number) for number in flight[1:]])
+    return first <= last and all([is_in_range(number) for number in flight[1:]])
+
+
+def is_flight(rules, flight):
+    return 0 <= flight[0] < rules.many_kinds() and has_right_numbers(flight)
 
 
 def is_flights(rules, flights):

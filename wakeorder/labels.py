@@ -11,8 +11,8 @@ def first_label(rules):
     return (0, tuple([row for strip in range(rules.many_strips())]))
 
 
+# For each kind and strip that has a last time, the least time that the gap from it leaves.
 def last_gap_times(rules, lasts, spot):
-    """For each kind and strip that has a last time, the least time that the gap from it leaves."""
     times = []
     for strip, row in enumerate(lasts):
         for kind, last in enumerate(row):

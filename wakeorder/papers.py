@@ -20,15 +20,15 @@ def refuse_too_many(rules, flights, shift):
 
 
 def all_beginnings(many, shift):
-    """Of none to all flights, so that each comes behind those that are smaller by one."""
+    # Of none to all flights, so that each comes behind those that are smaller by one.
     beginnings = []
     for size in range(many + 1):
         beginnings.extend(beginnings_of(many, shift, size))
     return beginnings
 
 
+# A dict whose keys are the labels behind those that a paper has one flight ahead of a beginning.
 def labels_behind(rules, flights, closed, paper, some):
-    """A dict whose keys are the labels behind those that a paper has one flight ahead of a beginning."""
     found = {}
     for smaller, flight in smaller_by_one(some):
         for label in paper.get(smaller, []):

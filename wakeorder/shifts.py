@@ -9,14 +9,9 @@ def is_within(order, shift):
     return all([abs(flight - place) <= shift for place, flight in enumerate(order)])
 
 
-def is_beginning(many, shift, some):
-    others = [flight for flight in range(many) if flight not in some]
-    return is_within(list(some) + others, shift)
-
-
+# All choices of so many of a rising list, each a rising tuple, rising.
 def choices_of(pool, size):
-    """All choices of so many of a rising list, each a rising tuple, rising."""
-    if size <= 0:
+    if size == 0:
         return [()]
     choices = []
     for place, one in enumerate(pool):
@@ -26,16 +21,15 @@ def choices_of(pool, size):
 
 
 def beginnings_of(many, shift, size):
-    # Only flights around the place at which the beginning ends are free to be in it or not: all that are
-    # further ahead must be in it, and none that is further behind can be.
-    sure = list(range(max(0, size - shift)))
+    # All flights that are further than the shift ahead of its end must be in a beginning, none that are further
+    # behind can be. Of those between any will do: put rising, none of them is further than the shift from its place.
+    sure = tuple(range(max(0, size - shift)))
     free = list(range(len(sure), min(many, size + shift)))
-    found = [tuple(sure) + some for some in choices_of(free, size - len(sure))]
-    return [some for some in found if is_beginning(many, shift, some)]
+    return [sure + some for some in choices_of(free, size - len(sure))]
 
 
+# For each flight of a beginning, the tuple (the beginning without it, the flight).
 def smaller_by_one(some):
-    """For each flight of a beginning, the tuple (the beginning without it, the flight)."""
     return [(some[:place] + some[place + 1:], flight) for place, flight in enumerate(some)]
 
 

@@ -9,8 +9,8 @@ def spots_of(flights, plan):
     return [(flights[flight][0], strip) for flight, strip in plan]
 
 
+# For each place ahead, the least time that the gap from it leaves.
 def gap_times(rules, spots, times, place):
-    """For each place ahead, the least time that the gap from it leaves."""
     return [times[ahead] + rules.apart(spots[ahead], spots[place]) for ahead in range(place)]
 
 
