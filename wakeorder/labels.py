@@ -1,13 +1,14 @@
-"""Labels: tuples (cost, lasts), what a part of a plan has cost and leaves to those behind it."""
+"""Labels: tuples (cost, lasts), what a part of a plan has cost and leaves to those behind it.
+
+A last time of -1 is none: nobody of this kind has used the strip.
+"""
 
 from wakeorder.costs import late_cost
 from wakeorder.openings import next_open
 
-NO_TIME = -1
-
 
 def first_label(rules):
-    row = tuple([NO_TIME for kind in range(rules.many_kinds())])
+    row = tuple([-1 for kind in range(rules.many_kinds())])
     return (0, tuple([row for strip in range(rules.many_strips())]))
 
 
@@ -16,7 +17,7 @@ def last_gap_times(rules, lasts, spot):
     times = []
     for strip, row in enumerate(lasts):
         for kind, last in enumerate(row):
-            if last != NO_TIME:
+            if last != -1:
                 times.append(last + rules.apart((kind, strip), spot))
     return times
 
